@@ -1,0 +1,1 @@
+"""Everystart: programs that throw dice, known for every start at once."""

@@ -1,0 +1,16 @@
+"""The bounds of all sizes that this package names."""
+
+MAX_COUNTERS = 3
+MAX_NODES = 40
+MAX_NEST = 6
+MAX_NUMBER = 20
+MAX_TEST = 4
+MAX_SIDES = 6
+MAX_SIDE = 9
+MAX_END = 60
+MAX_ENDS = 2000
+MAX_TERMS = 5000
+MAX_ROUNDS = 12
+MAX_PARTS = 20
+MAX_FIGURES = 400
+MAX_EDITS = 40
