@@ -4,8 +4,22 @@ from math import gcd
 
 from everystart.bounds import MAX_FIGURES
 from everystart.errors import BadText, Unfit
+from everystart.integers import is_integer
 
 FIGURES = "0123456789"
+
+
+def is_fraction(value):
+    """Return whether value is a fraction."""
+    if not isinstance(value, tuple) or len(value) != 2:
+        return False
+    a, b = value
+    return is_integer(a) and is_integer(b) and b >= 1 and gcd(a, b) == 1
+
+
+def is_chance(value):
+    """Return whether value is a fraction above 0 and below 1."""
+    return is_fraction(value) and 0 < value[0] < value[1]
 
 
 def lowest(a, b):
