@@ -43,6 +43,11 @@ def compared(one, other):
     return 0
 
 
+def added_fractions(one, other):
+    """Return the sum of two fractions."""
+    return lowest(one[0] * other[1] + other[0] * one[1], one[1] * other[1])
+
+
 def fraction_text(fraction):
     """Return the text of fraction."""
     a, b = fraction

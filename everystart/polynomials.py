@@ -4,7 +4,7 @@ from math import lcm
 
 from everystart.fractions import is_fraction, lowest
 from everystart.integers import is_integer, power
-from everystart.sums import Keys, by_power, moved, plus, raised, scaled, times
+from everystart.sums import Keys, by_power, plus, raised, scaled, times
 
 
 def polynomial_error(n, value):

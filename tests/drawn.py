@@ -56,6 +56,7 @@ class Steps:
         self.most_test = more.get("most_test", 4)
         self.most_sides = more.get("most_sides", 6)
         self.most_side = more.get("most_side", 9)
+        self.hits = more.get("hits")
         self.words = more.get("words", ("set", "add", "less", "throw", "sum", "if", "either", "seen"))
 
     def steps(self, nodes, nest=0):
@@ -73,7 +74,7 @@ class Steps:
     def die(self):
         if self.tills > 0 and self.draw.random() < 0.5:
             self.tills -= 1
-            return "till", chance(self.draw)
+            return "till", self.draw.choice(self.hits) if self.hits else chance(self.draw)
         return sided(self.draw, self.most_sides, self.most_side)
 
     def step(self, nodes, nest):
