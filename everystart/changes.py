@@ -180,7 +180,7 @@ def _summed(keys, form, place, die, other):
         if often > 0:
             above = keys.times(above, keys.raised(lower, often))
         else:
-            keys.spend(-often)
+            keys.bound(-often)
             factor = factor * power(number, -often)
             if divisor != ():
                 led = row_with(led, (divisor,) * -often)

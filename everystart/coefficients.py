@@ -12,6 +12,7 @@ from math import comb, gcd
 
 from everystart.fractions import added_fractions, lowest
 from everystart.integers import power
+from everystart.parts import counted
 
 
 def coefficient_at(keys, form, powers):
@@ -25,7 +26,7 @@ def coefficient_at(keys, form, powers):
 
 def _part_coefficient(keys, row, above, below, wanted):
     """Return the coefficient of above over row and below at the key wanted."""
-    groups = [(divisor, row.count(divisor)) for divisor in sorted(set(row))]
+    groups = list(counted(row).items())
     scales = _scales(keys, groups)
     limits = _limits(keys, groups)
     weights = {}

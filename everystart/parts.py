@@ -99,7 +99,8 @@ def cancelled(keys, form):
     for row, (above, below) in form.items():
         kept = []
         for divisor in row:
-            quotient = divided(keys, above, divisor)
+            # What a divisor did not divide once it does not divide the next time.
+            quotient = None if divisor in kept[-1:] else divided(keys, above, divisor)
             if quotient is None:
                 kept.append(divisor)
             else:
@@ -125,10 +126,18 @@ def form_slope(keys, form, place):
     found = {}
     for row, (above, below) in form.items():
         put_part(found, row, slope(keys, above, place), below)
-        for divisor in row:
+        for divisor, often in counted(row).items():
             falling = slope(keys, sum_of(divisor), place)
             if falling:
-                put_part(found, row_with(row, (divisor,)), scaled(keys.times(above, falling), -1), below)
+                put_part(found, row_with(row, (divisor,)), scaled(keys.times(above, falling), -often), below)
+    return found
+
+
+def counted(row):
+    """Return a dict of the divisors of row, and how often each stands in it."""
+    found = {}
+    for divisor in row:
+        found[divisor] = found.get(divisor, 0) + 1
     return found
 
 
@@ -136,8 +145,8 @@ def all_divisors(form):
     """Return a dict with each divisor of form, and how often it stands in a row at most."""
     found = {}
     for row in form:
-        for divisor in row:
-            found[divisor] = max(found.get(divisor, 0), row.count(divisor))
+        for divisor, often in counted(row).items():
+            found[divisor] = max(found.get(divisor, 0), often)
     return found
 
 

@@ -67,6 +67,11 @@ class Keys:
         if self.budget < 0:
             raise TooMany(MAX_TERMS)
 
+    def bound(self, many):
+        """Check that many, a number of factors, is not too great."""
+        if many > MAX_TERMS:
+            raise TooMany(MAX_TERMS)
+
     def times(self, one, other):
         """Return the product of two sums, for which there has to be work left."""
         self.spend(len(one) * len(other))
@@ -76,9 +81,8 @@ class Keys:
         """Return the product of many times total, for which there has to be work left."""
         if len(total) == 1:
             return raised(total, many)
-        if many > MAX_TERMS:
-            # The product has more terms than it has factors.
-            raise TooMany(MAX_TERMS)
+        # The product has more terms than it has factors.
+        self.bound(many)
         result = {0: 1}
         for _ in range(many):
             result = self.times(result, total)

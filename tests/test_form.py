@@ -2,6 +2,7 @@
 
 import ast
 import builtins
+import functools
 import pathlib
 import unittest
 
@@ -35,6 +36,7 @@ def files():
     return sorted(path for path in PACKAGE.rglob("*") if "__pycache__" not in path.parts and path.is_file())
 
 
+@functools.lru_cache(maxsize=None)
 def trees():
     return {path.stem: ast.parse(path.read_text()) for path in files()}
 
