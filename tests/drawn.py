@@ -1,6 +1,5 @@
 """What the tests draw: dice, programs, polynomials and the like, the same at each run."""
 
-import math
 import random
 from fractions import Fraction
 
@@ -172,7 +171,3 @@ def values():
         ("x", "y"), [], [()], [[]], ["x"], {}, {"die": ()}, {(1, 2): [3]}, {1: {2: {}}}, deep, cards,
         tuple(range(4000)), ((),) * 3999, [0] * 3999, errors.Unfit(), errors.TooMany(2000), errors.BadProgram(("form",)),
     ]
-
-
-def coprime(a, b):
-    return math.gcd(a, b) == 1
