@@ -271,6 +271,7 @@ class StepsErrorTest(KindsCase):
             # Those in wrong ones count as well, if the last two items are tuples.
             self.check_same(steps_error(1, ((word, None, (LESS,) * 20, (LESS,) * 20),)), ("many", ()))
             self.check_same(steps_error(1, ((word, None, (LESS,) * 40, [LESS]),)), ("step", (0,)))
+            self.check_same(steps_error(1, ((word, None, [LESS], (LESS,) * 40),)), ("step", (0,)))
             self.check_same(steps_error(1, (("seen", None, (LESS,) * 40, (LESS,)),)), ("step", (0,)))
             self.check_same(steps_error(1, ((word, chooser, (LESS,) * 40, (), ()),)), ("step", (0,)))
         for _ in range(300):
