@@ -32,9 +32,9 @@ def _check(keys, form):
     high = keys.key([keys.mask >> POWER_BITS << POWER_BITS] * keys.many)
     for row, (above, _) in form.items():
         keys.spend(len(row) + len(above))
-        for key in above:
-            if key & high > 0:
-                raise TooMany(MAX_TERMS)
+        powers = list(above) + [key for divisor in row for key, _ in divisor]
+        if any([key & high > 0 for key in powers]):
+            raise TooMany(MAX_TERMS)
 
 
 def _form_behind_step(keys, form, step):

@@ -224,6 +224,27 @@ class EffectTest(KindsCase):
         self.check_shares(program, drawn.drawing("great"), [(0,), (1,), (2,)])
         self.assertIsNone(effect_error(program, effect(program)))
 
+    def test_numbers_beyond_all_bounds(self):
+        """Powers as great as 10 ** 40, above and below, of each counter: TooMany(5000), or right."""
+        told = 0
+        for many, counter in ((1, 0), (2, 0), (2, 1), (3, 2)):
+            tenfold = ("sum", counter, ("die", ((9, (1, 1)),)), counter)
+            for number in (4, 5, 6, 7, 12, 13, 14, 15, 20, 39):
+                program = (drawn.NAMES[:many], (tenfold,) * number)
+                start, end = (0,) * counter + (1,) + (0,) * (many - counter - 1), (0,) * counter + (10 ** number,) + (0,) * (many - counter - 1)
+                try:
+                    self.check_same(coefficient(2 * many, effect(program), end + start), (1, 1))
+                    told += 1
+                except TooMany as error:
+                    self.check_same(error.limit, 5000)
+                tilled = (program[0], (("throw", counter, ("till", (1, 2))),) + program[1])
+                try:
+                    self.check_same(share_of(tilled, start, end), (1, 2))
+                    self.check_same(share_of(tilled, start, tuple(2 * power for power in end)), (1, 4))
+                except TooMany as error:
+                    self.check_same(error.limit, 5000)
+        self.assertGreater(told, 7)
+
     def test_too_many_or_right(self):
         """Programs beyond the told kind: TooMany(5000), or right."""
         draw = drawn.drawing("beyond")
