@@ -17,6 +17,7 @@ from everystart.sums import Keys, by_power, moved, plus, scaled, with_nought
 # Powers stay below 2 ** POWER_BITS behind each step; what is multiplied on the way has fields for more.
 POWER_BITS = 20
 FIELD_BITS = 44
+BRANCHING = ("if", "either")
 
 
 def form_behind(keys, form, steps):
@@ -25,6 +26,41 @@ def form_behind(keys, form, steps):
         form = cancelled(keys, _form_behind_step(keys, form, step))
         _check(keys, form)
     return form
+
+
+def difference_behind(keys, form, one, other):
+    """Return what the steps one make of form, less what the steps other make of it.
+
+    What both begin with is done once, and what both end with on the difference alone.
+    """
+    if one == other:
+        return {}
+    ahead = _shared_ahead(one, other)
+    form = form_behind(keys, form, one[:ahead])
+    one, other = one[ahead:], other[ahead:]
+    behind = _shared_ahead(one[::-1], other[::-1])
+    last = one[len(one) - behind:]
+    between = _parting_behind(keys, form, one[:len(one) - behind], other[:len(other) - behind])
+    return form_behind(keys, cancelled(keys, between), last)
+
+
+def _parting_behind(keys, form, one, other):
+    """Return the difference behind one and other, which begin and end with unlike steps."""
+    if len(one) == 1 and len(other) == 1 and one[0][0] in BRANCHING and one[0][:2] == other[0][:2]:
+        yes, no = _led_apart(keys, form, one[0])
+        difference = difference_behind(keys, yes, one[0][2], other[0][2])
+        return added_forms(difference, difference_behind(keys, no, one[0][3], other[0][3]))
+    return without_form(form_behind(keys, form, one), form_behind(keys, form, other))
+
+
+def _shared_ahead(one, other):
+    """Return with how many like items two tuples begin."""
+    many = 0
+    for step, like in zip(one, other):
+        if step != like:
+            break
+        many += 1
+    return many
 
 
 def _check(keys, form):
@@ -50,15 +86,19 @@ def _form_behind_step(keys, form, step):
         return _thrown(keys, form, step[1], step[2])
     if word == "sum":
         return _summed(keys, form, step[1], step[2], step[3])
-    if word == "either":
-        a, b = step[1]
-        yes = form_behind(keys, scaled_form(form, a, b), step[2])
-        return added_forms(yes, form_behind(keys, scaled_form(form, b - a, b), step[3]))
-    passing = _passing(keys, form, step[1])
     if word == "seen":
-        return passing
-    yes = form_behind(keys, passing, step[2])
-    return added_forms(yes, form_behind(keys, without_form(form, passing), step[3]))
+        return _passing(keys, form, step[1])
+    yes, no = _led_apart(keys, form, step)
+    return added_forms(form_behind(keys, yes, step[2]), form_behind(keys, no, step[3]))
+
+
+def _led_apart(keys, form, step):
+    """Return what of form is led to the one branch of step, an "if" or "either", and what to the other."""
+    if step[0] == "either":
+        a, b = step[1]
+        return scaled_form(form, a, b), scaled_form(form, b - a, b)
+    passing = _passing(keys, form, step[1])
+    return passing, without_form(form, passing)
 
 
 def _passing(keys, form, test):
@@ -75,7 +115,7 @@ def _parted_row(keys, row, place):
     return tuple([divisor for divisor, has in parted if has]), tuple([divisor for divisor, has in parted if not has])
 
 
-def _nought_row(keys, row, place):
+def row_with_nought(keys, row, place):
     """Return the row of the divisors of row with 0 put for the name at place, and the number that is left."""
     return row_of([with_nought(keys, sum_of(divisor), place) for divisor in row])
 
@@ -93,7 +133,7 @@ def _lessened(keys, form, place):
             put_part(found, row, moved(above, -unit), below)
             continue
         having, others = _parted_row(keys, row, place)
-        nought_row, number = _nought_row(keys, having, place)
+        nought_row, number = row_with_nought(keys, having, place)
         put_part(found, row_with(others, nought_row), nought, below * number)
         product = product_of(keys, having)
         rest = plus(
@@ -114,7 +154,7 @@ def _below(keys, form, place, most):
     found = {}
     for row, (above, below) in form.items():
         having, others = _parted_row(keys, row, place)
-        nought_row, number = _nought_row(keys, having, place)
+        nought_row, number = row_with_nought(keys, having, place)
         pieces = by_power(keys, above, place)
         product = by_power(keys, product_of(keys, having), place)
         uppers = []

@@ -14,10 +14,15 @@ def effect(program):
 
 def effect_form(program, most):
     """Return keys that have room for powers up to most, and the form of the effect of program."""
-    many = len(program[0])
+    keys, form = start_form(len(program[0]), most)
+    return keys, form_behind(keys, form, program[1])
+
+
+def start_form(many, most):
+    """Return keys that have room for powers up to most, and the form of no step at all, for many counters."""
     keys = Keys(2 * many, max(FIELD_BITS, most.bit_length() + FIELD_BITS - POWER_BITS))
     row = [((0, 1), (keys.unit(place) + keys.unit(many + place), -1)) for place in range(many)]
-    return keys, form_behind(keys, {tuple(sorted(row)): ({0: 1}, 1)}, program[1])
+    return keys, {tuple(sorted(row)): ({0: 1}, 1)}
 
 
 def effect_error(program, value):

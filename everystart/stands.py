@@ -23,15 +23,14 @@ def has_till(steps):
 
 def crowd_behind(program, start):
     """Return the crowd behind all steps of program, from start."""
-    return _behind(({start: 1}, 1), program[1])
+    return behind_steps(({start: 1}, 1), program[1])
 
 
-def _behind(crowd, steps):
+def behind_steps(crowd, steps):
     """Return the crowd behind steps."""
     for step in steps:
         weights, whole = _behind_step(crowd, step)
-        _check(weights)
-        crowd = _lowest_crowd(weights, whole)
+        crowd = lowest_crowd(weights, whole)
     return crowd
 
 
@@ -41,8 +40,9 @@ def _check(weights):
         raise TooMany(MAX_ENDS)
 
 
-def _lowest_crowd(weights, whole):
-    """Return the crowd of weights and whole without a common divisor."""
+def lowest_crowd(weights, whole):
+    """Return the crowd of weights and whole, not at too many stands, without a common divisor."""
+    _check(weights)
     divisor = whole
     for weight in weights.values():
         if divisor == 1:
@@ -60,14 +60,14 @@ def _behind_step(crowd, step):
         return _thrown(crowd, step[1], step[2], step[3])
     if word == "either":
         a, b = step[1]
-        yes = _behind(_scaled(crowd, a, b), step[2])
-        return _together(yes, _behind(_scaled(crowd, b - a, b), step[3]))
+        yes = behind_steps(_scaled(crowd, a, b), step[2])
+        return joined_crowds(yes, behind_steps(_scaled(crowd, b - a, b), step[3]))
     if word == "if" or word == "seen":
-        passing, others = _parted(crowd, step[1])
+        passing, others = parted(crowd, step[1])
         if word == "seen":
             return passing
-        yes = _behind(passing, step[2])
-        return _together(yes, _behind(others, step[3]))
+        yes = behind_steps(passing, step[2])
+        return joined_crowds(yes, behind_steps(others, step[3]))
     return _moved(crowd, step)
 
 
@@ -124,7 +124,7 @@ def _scaled(crowd, a, b):
     return {stand: weight * a for stand, weight in weights.items()}, whole * b
 
 
-def _together(one, other):
+def joined_crowds(one, other):
     """Return the crowd of two crowds together."""
     whole = lcm(one[1], other[1])
     led = {stand: weight * (whole // one[1]) for stand, weight in one[0].items()}
@@ -133,14 +133,19 @@ def _together(one, other):
     return led, whole
 
 
-def _parted(crowd, test):
+def passes(stand, test):
+    """Return whether stand passes test."""
+    counter, word, number = test
+    return (stand[counter] < number) == (word == "below")
+
+
+def parted(crowd, test):
     """Return the crowd of the stands of crowd that pass test, and that of the others."""
     weights, whole = crowd
-    counter, word, number = test
     passing = {}
     others = {}
     for stand, weight in weights.items():
-        if (stand[counter] < number) == (word == "below"):
+        if passes(stand, test):
             passing[stand] = weight
         else:
             others[stand] = weight

@@ -118,6 +118,50 @@ def program(draw, many, nodes, **more):
     return NAMES[:many], Steps(draw, many, **more).steps(nodes)
 
 
+def loop(draw, many, nodes, **more):
+    """Return a loop of many counters, with at most so many steps in a round."""
+    more.setdefault("nest", 5)
+    return NAMES[:many], test_of(draw, many, more.get("most_test", 4)), Steps(draw, many, **more).steps(nodes)
+
+
+def measure(draw, many):
+    """Return a measure of many counters."""
+    return tuple(pair(Fraction(draw.randint(0, 5), draw.randint(1, 3))) for _ in range(many))
+
+
+WORDS = ("as", "by", "die", "do", "either", "else", "if", "loop", "or", "program", "seen", "skip", "till", "while")
+
+
+def new_name(draw, taken):
+    """Return a name that is none of those taken."""
+    while True:
+        name = "".join(draw.choice("abcdefghijklmnopqrstuvwxyz") for _ in range(draw.choice((1, 2, 4, 8))))
+        if name not in WORDS and name not in taken:
+            return name
+
+
+def with_dos(draw, steps, taken, often):
+    """Return steps with some pairs that do a part with one of the names taken put in."""
+    found = list(steps)
+    while taken and draw.random() < often:
+        found.insert(draw.randint(0, len(found)), ("do", draw.choice(taken)))
+    return tuple(found)
+
+
+def book(draw, many, parts, nodes, often=0.5, **more):
+    """Return a book of so many parts, with at most so many steps in each row that stands in them."""
+    taken, found = [], []
+    for _ in range(parts):
+        name = new_name(draw, taken)
+        steps, told = [with_dos(draw, Steps(draw, many, nest=5, **more).steps(draw.randint(0, nodes)), taken, often) for _ in range(2)]
+        if draw.random() < 0.5:
+            found.append(("program", name, steps))
+        else:
+            found.append(("loop", name, test_of(draw, many, more.get("most_test", 4)), steps, told, measure(draw, many)))
+        taken.append(name)
+    return NAMES[:many], tuple(found)
+
+
 def powers(draw, n, most):
     return tuple(draw.randint(0, most) for _ in range(n))
 

@@ -1,5 +1,6 @@
 """A plain runner: goes through a program stand by stand, as [C1] tells, with Fractions or with floats."""
 
+import itertools
 from fractions import Fraction
 from math import comb
 
@@ -109,3 +110,24 @@ def passes(stand, test):
 
 def with_number(stand, counter, number):
     return stand[:counter] + (number,) + stand[counter + 1:]
+
+
+def in_order(stands):
+    """Return the stands, by their sums, and those of one sum as tuples."""
+    return sorted(stands, key=lambda stand: (sum(stand), stand))
+
+
+def starts_to(many, most):
+    """Return all starts of many counters whose numbers come to at most so many together, in order."""
+    return in_order(stand for stand in itertools.product(range(most + 1), repeat=many) if sum(stand) <= most)
+
+
+def first_parting(one, other, starts):
+    """Return the first of starts, and for it the first end, at which two programs without tills part, or None."""
+    runner = Runner(bound=False)
+    for start in starts:
+        left, right = runner.run(one, start), runner.run(other, start)
+        ends = in_order(end for end in {**left, **right} if left.get(end, 0) != right.get(end, 0))
+        if ends:
+            return start, ends[0]
+    return None
