@@ -105,13 +105,13 @@ def _read_tuple(reader, names, nest):
     word = reader.word()
     if word == "skip":
         return ()
-    steps = [_read_step(reader, names, nest, word)]
+    steps = [read_step(reader, names, nest, word)]
     while reader.passes("; "):
-        steps.append(_read_step(reader, names, nest, reader.word()))
+        steps.append(read_step(reader, names, nest, reader.word()))
     return tuple(steps)
 
 
-def _read_step(reader, names, nest, word):
+def read_step(reader, names, nest, word):
     """Return the step that begins with word, behind which reader stands."""
     if word == "seen":
         reader.needs(" ")

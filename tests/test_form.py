@@ -16,7 +16,7 @@ LIBRARY = {
 BUILTINS = set(
     "len range enumerate zip min max sum abs sorted reversed int str bool bytes list tuple dict set frozenset isinstance ord repr any all divmod"
     " Exception ValueError TypeError KeyError IndexError LookupError ZeroDivisionError ArithmeticError OverflowError RuntimeError"
-    " NotImplementedError NotImplemented".split()
+    " NotImplementedError NotImplemented property".split()
 )
 METHODS = set(
     "append clear copy count endswith extend find get index insert isalnum isalpha isdigit islower isspace isupper items join keys ljust lower lstrip"
@@ -27,7 +27,7 @@ VIEWS = {"range", "zip", "enumerate", "reversed"}
 GOING_OVER = {"list", "tuple", "dict", "sorted", "sum", "any", "all", "enumerate", "zip", "min", "max"}
 KEYWORDS = {"sorted": {"key", "reverse"}, "min": {"key", "default"}, "max": {"key", "default"}, "sum": {"start"}, "enumerate": {"start"}, "zip": {"strict"}}
 BARRED = (
-    ast.AsyncFunctionDef, ast.Await, ast.Global, ast.GeneratorExp, ast.NamedExpr, ast.Try, ast.With, ast.Yield, ast.YieldFrom, ast.JoinedStr, ast.Div,
+    ast.AsyncFunctionDef, ast.Await, ast.Global, ast.GeneratorExp, ast.NamedExpr, ast.With, ast.Yield, ast.YieldFrom, ast.JoinedStr, ast.Div,
     ast.Match, ast.Starred, ast.AnnAssign,
 )
 
@@ -39,6 +39,13 @@ def files():
 @functools.lru_cache(maxsize=None)
 def trees():
     return {path.stem: ast.parse(path.read_text()) for path in files()}
+
+
+@functools.lru_cache(maxsize=None)
+def properties():
+    """Return the names of all properties of the package's classes."""
+    return {node.name for tree in trees().values() for parent in ast.walk(tree) if isinstance(parent, ast.ClassDef)
+            for node in parent.body if isinstance(node, ast.FunctionDef) and node.decorator_list}
 
 
 def with_parents(tree):
@@ -90,7 +97,7 @@ class FilesTest(unittest.TestCase):
                 if isinstance(node, ast.FunctionDef):
                     with self.subTest(file=name, function=node.name):
                         self.assertLessEqual(node.end_lineno - node.lineno + 1, 40)
-                        self.assertTrue(node.name == "__init__" or ast.get_docstring(node))
+                        self.assertTrue(node.name in ("__init__", "__eq__") or ast.get_docstring(node))
 
 
 class ImportsTest(unittest.TestCase):
@@ -169,10 +176,32 @@ class LanguageTest(unittest.TestCase):
                         self.assertIsInstance(node.value, (int, str, bytes, type(None)))
                         self.assertFalse(isinstance(node.value, str) and "%" in node.value)
                     if isinstance(node, (ast.FunctionDef, ast.ClassDef)):
-                        self.assertEqual(node.decorator_list, [])
+                        self.assertLessEqual(len(node.decorator_list), 1 if node.name in properties() else 0)
                     if isinstance(node, ast.BinOp) and isinstance(node.op, ast.Pow):
                         self.assertIsInstance(node.right, ast.Constant)
                         self.assertLessEqual(node.right.value, 64)
+
+    def test_properties_are_read_alone(self):
+        for name, tree in trees().items():
+            for node in ast.walk(tree):
+                if isinstance(node, ast.Attribute) and node.attr in properties():
+                    with self.subTest(file=name, line=node.lineno):
+                        self.assertIsInstance(node.ctx, ast.Load)
+                for decorator in getattr(node, "decorator_list", []):
+                    self.assertEqual(decorator.id, "property")
+                    self.assertEqual(len(node.args.args), 1)
+
+    def test_own_errors_are_raised_on_the_spot_and_caught_by_name(self):
+        own = set(bound(trees()["errors"]))
+        for name, tree in trees().items():
+            for node in ast.walk(tree):
+                with self.subTest(file=name, line=getattr(node, "lineno", None)):
+                    if isinstance(node, ast.Try):
+                        self.assertEqual(node.finalbody, [])
+                        self.assertLessEqual({handler.type.id for handler in node.handlers}, own)
+                    if isinstance(node, ast.Raise):
+                        self.assertIn(node.exc.func.id, own)
+                        self.assertTrue(node.cause is None or node.cause.value is None)
 
     def test_calls(self):
         methods = {node.name for tree in trees().values() for parent in ast.walk(tree) if isinstance(parent, ast.ClassDef)
@@ -216,7 +245,7 @@ class LanguageTest(unittest.TestCase):
             for node in ast.walk(tree):
                 if isinstance(node, ast.Attribute) and isinstance(node.ctx, ast.Load) and id(node) not in called:
                     with self.subTest(file=name, line=node.lineno):
-                        self.assertIn(node.attr, found)
+                        self.assertIn(node.attr, found | properties())
 
 
 if __name__ == "__main__":
