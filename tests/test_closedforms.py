@@ -12,30 +12,8 @@ from everystart.closedforms import coefficient, form_error, same_series, togethe
 from everystart.polynomials import added, multiplied
 from tests import drawn
 from tests.drawn import pair, worth
-from tests.examples import check_examples
 from tests.kinds import KindsCase, shown
 from tests.series import multiplied_out
-
-EXAMPLES = """
-    >>> from everystart.polynomials import added, multiplied, polynomial_error, put_in
-    >>> unit, x, u = (((0, 0), (1, 1)),), (((1, 0), (1, 1)),), (((0, 1), (1, 1)),)
-    >>> mid = (((0, 0), (1, 2)), ((1, 0), (1, 2)))
-    >>> from everystart.closedforms import coefficient, form_error, same_series, together
-    >>> through = (((0, 0), (1, 1)), ((1, 1), (-1, 1)))
-    >>> stay, fair = ((unit, (through,)),), ((mid, (through,)),)
-    >>> coefficient(2, stay, (3, 3)), coefficient(2, stay, (3, 2)), coefficient(2, fair, (3, 3)), coefficient(2, fair, (4, 3)), coefficient(2, (), (0, 0))
-    ((1, 1), (0, 1), (1, 2), (1, 2), (0, 1))
-    >>> geo = (((0, 0), (1, 1)), ((0, 1), (-1, 1)))
-    >>> [coefficient(2, ((unit, (geo, geo)),), (0, power)) for power in (0, 1, 2, 9)]
-    [(1, 1), (2, 1), (3, 1), (10, 1)]
-    >>> [form_error(2, value) for value in (stay, (), fair + stay, [stay], (unit,), ((mid, (unit,)),), (((), ()),), ((unit, (geo, through)),), ((unit, (through, geo)),))]
-    [None, None, None, 'form', ('part', 0), ('below', 0), ('above', 0), None, ('order', 0)]
-    >>> same_series(2, fair, fair), same_series(2, fair, stay), same_series(2, stay + ((mid, ()),), stay)
-    (True, False, False)
-    >>> shrunk = ((added(unit, (((1, 1), (-1, 1)),)), (geo, through)),)
-    >>> same_series(2, shrunk, ((unit, (geo,)),)), len(together(2, fair + stay)), together(2, stay + (((((0, 0), (-1, 1)),), (through,)),))
-    (True, 1, ())
-"""
 
 UNIT = (((0, 0), (1, 1)),)
 MID = (((0, 0), (1, 2)), ((1, 0), (1, 2)))
@@ -48,11 +26,6 @@ PART = (MID, (GEO, THROUGH))
 def contrary(form):
     """Return the form that is 0 together with form."""
     return tuple((tuple((powers, (-a, b)) for powers, (a, b) in above), below) for above, below in form)
-
-
-class ExamplesTest(unittest.TestCase):
-    def test_examples(self):
-        check_examples(self, EXAMPLES)
 
 
 class CallsTest(KindsCase):

@@ -11,25 +11,7 @@ from everystart import dice
 from everystart.dice import die_error, die_mean, least_side, side_share, sum_share
 from tests import drawn
 from tests.drawn import pair, worth
-from tests.examples import check_examples
 from tests.kinds import KindsCase, shown
-
-EXAMPLES = """
-    >>> from everystart.dice import die_error, die_mean, least_side, side_share, sum_share
-    >>> coin, odd, till = ("die", ((0, (1, 2)), (1, (1, 2)))), ("die", ((1, (1, 3)), (2, (2, 3)))), ("till", (1, 3))
-    >>> [die_error(value) for value in (coin, odd, till, ("die", ((7, (1, 1)),)), ("die", ()), list(coin), ("die", [(0, (1, 1))]), ("till",), ("coin", (1, 2)), None)]
-    [None, None, None, None, 'form', 'form', 'form', 'form', 'form', 'form']
-    >>> [die_error(("till", share)) for share in ((1, 1), (0, 1), (2, 4), 1, (True, 2))]
-    ['share', 'share', 'share', 'share', 'share']
-    >>> [die_error(("die", sides)) for sides in (((0, (1, 2)), (10, (1, 2))), ((0, (1, 2)), (1, (0, 1))), ((1, (1, 2)), (0, (1, 2))), ((1, (1, 2)), (1, (1, 2))), ((0, (1, 2)), (1, (1, 3))))]
-    [('side', 1), ('side', 1), ('order', 1), ('order', 1), 'sum']
-    >>> [side_share(coin, number) for number in (0, 1, 2)], side_share(odd, 0), [side_share(till, number) for number in (0, 1, 2)]
-    ([(1, 2), (1, 2), (0, 1)], (0, 1), [(1, 3), (2, 9), (4, 27)])
-    >>> [die_mean(die) for die in (coin, odd, till)], [least_side(die) for die in (coin, odd, till)]
-    ([(1, 2), (5, 3), (2, 1)], [0, 1, 0])
-    >>> sum_share(coin, 2, 1), sum_share(odd, 2, 3), sum_share(till, 2, 1), sum_share(coin, 0, 0), sum_share(coin, 0, 1), sum_share(odd, 3, 2)
-    ((1, 2), (4, 9), (4, 27), (1, 1), (0, 1), (0, 1))
-"""
 
 GREAT = 10 ** 399
 COIN = ("die", ((0, (1, 2)), (1, (1, 2))))
@@ -62,11 +44,6 @@ def side_of(die, number):
     if die[0] == "till":
         return pair(worth(die[1]) * (1 - worth(die[1])) ** number)
     return dict(die[1]).get(number, (0, 1))
-
-
-class ExamplesTest(unittest.TestCase):
-    def test_examples(self):
-        check_examples(self, EXAMPLES)
 
 
 class CallsTest(KindsCase):

@@ -14,33 +14,9 @@ from everystart.programs import put_behind
 from everystart.runs import left_of, share_of
 from tests import drawn
 from tests.drawn import pair, worth
-from tests.examples import check_examples
 from tests.kinds import KindsCase
 from tests.runner import Runner
 from tests.series import multiplied_out
-
-EXAMPLES = """
-    >>> from everystart.polynomials import added, multiplied, polynomial_error, put_in
-    >>> unit, x, u = (((0, 0), (1, 1)),), (((1, 0), (1, 1)),), (((0, 1), (1, 1)),)
-    >>> mid = (((0, 0), (1, 2)), ((1, 0), (1, 2)))
-    >>> from everystart.closedforms import coefficient, form_error, same_series, together
-    >>> through = (((0, 0), (1, 1)), ((1, 1), (-1, 1)))
-    >>> stay, fair = ((unit, (through,)),), ((mid, (through,)),)
-    >>> from everystart.effects import effect, effect_error, left_form, mean_form
-    >>> flip = (("x",), (("throw", 0, ("die", ((0, (1, 2)), (1, (1, 2))))),))
-    >>> nothing, down = (("x",), ()), (("x",), (("less", 0),))
-    >>> effect_error(flip, fair), effect_error(nothing, stay), effect_error(nothing, fair), effect_error(flip, None)
-    (None, None, ('share', (0,), (0,)), 'form')
-    >>> effect_error(down, effect(down)), coefficient(2, effect(down), (0, 0)), coefficient(2, effect(down), (0, 1)), coefficient(2, effect(down), (7, 8)), coefficient(2, effect(down), (8, 8))
-    (None, (1, 1), (1, 1), (1, 1), (0, 1))
-    >>> wait = (("x",), (("set", 0, 0), ("throw", 0, ("till", (1, 3)))))
-    >>> [coefficient(2, effect(wait), (end, start)) for end, start in ((0, 0), (0, 5), (1, 5), (2, 1))]
-    [(1, 3), (1, 3), (2, 9), (4, 27)]
-    >>> [coefficient(1, left_form(flip), (start,)) for start in (0, 4)], [coefficient(1, mean_form(flip, 0), (start,)) for start in (0, 4)], [coefficient(1, mean_form(down, 0), (start,)) for start in (0, 1, 4)]
-    ([(1, 1), (1, 1)], [(1, 2), (9, 2)], [(0, 1), (0, 1), (3, 1)])
-    >>> [coefficient(1, left_form((("x",), (("seen", (0, "below", 2)),))), (start,)) for start in (0, 1, 2, 9)]
-    [(1, 1), (1, 1), (0, 1), (0, 1)]
-"""
 
 COIN = ("die", ((0, (1, 2)), (1, (1, 2))))
 FLIP, NOTHING, DOWN = (("x",), (("throw", 0, COIN),)), (("x",), ()), (("x",), (("less", 0),))
@@ -66,11 +42,6 @@ def terms(form):
 def in_order(pairs):
     """Return the first pair (start, end), by sums and then as tuples, starts ahead of ends."""
     return min(pairs, key=lambda pair: (sum(pair[0]), pair[0], sum(pair[1]), pair[1]))
-
-
-class ExamplesTest(unittest.TestCase):
-    def test_examples(self):
-        check_examples(self, EXAMPLES)
 
 
 class CallsTest(KindsCase):

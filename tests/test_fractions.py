@@ -10,27 +10,6 @@ from fractions import Fraction
 from everystart import fractions
 from everystart.errors import BadText, NoName, ThrowError, TooMany, Unfit
 from everystart.fractions import compared, fraction_text, lowest, read_fraction
-from tests.examples import check_examples
-
-LOWEST_EXAMPLES = """
-    >>> from everystart.fractions import compared, fraction_text, lowest, read_fraction
-    >>> lowest(10, 4), lowest(2, -6), lowest(0, 7), compared((2, 5), (1, 2)), compared((3, 7), (3, 7)), compared((0, 1), (-1, 9))
-    ((5, 2), (-1, 3), (0, 1), -1, 0, 1)
-    >>> lowest(3, 0)
-    raises Unfit()
-"""
-
-TEXT_EXAMPLES = """
-    >>> from everystart.fractions import compared, fraction_text, lowest, read_fraction
-    >>> fraction_text((5, 2)), fraction_text((-4, 1)), fraction_text((0, 1)), read_fraction("-1/3"), read_fraction("12")
-    ('5/2', '-4', '0', (-1, 3), (12, 1))
-    >>> read_fraction("2/6")
-    raises BadText()
-    >>> read_fraction("4/1")
-    raises BadText()
-    >>> read_fraction("+1/2")
-    raises BadText()
-"""
 
 GREAT = 10 ** 399
 GREATEST = 10 ** 400 - 1
@@ -62,14 +41,6 @@ class FractionCase(unittest.TestCase):
         self.assertEqual([type(item) for item in value], [int, int])
         self.assertGreater(value[1], 0)
         self.assertEqual(math.gcd(*value), 1)
-
-
-class ExamplesTest(unittest.TestCase):
-    def test_lowest_and_compared(self):
-        check_examples(self, LOWEST_EXAMPLES)
-
-    def test_texts(self):
-        check_examples(self, TEXT_EXAMPLES)
 
 
 class CallsTest(unittest.TestCase):

@@ -10,20 +10,7 @@ from everystart import polynomials
 from everystart.polynomials import added, multiplied, polynomial_error, put_in
 from tests import drawn
 from tests.drawn import pair, worth
-from tests.examples import check_examples
 from tests.kinds import KindsCase, shown
-
-EXAMPLES = """
-    >>> from everystart.polynomials import added, multiplied, polynomial_error, put_in
-    >>> unit, x, u = (((0, 0), (1, 1)),), (((1, 0), (1, 1)),), (((0, 1), (1, 1)),)
-    >>> mid = (((0, 0), (1, 2)), ((1, 0), (1, 2)))
-    >>> added(unit, x), added(mid, (((0, 0), (-1, 2)),)), multiplied(mid, mid), multiplied(x, ())
-    ((((0, 0), (1, 1)), ((1, 0), (1, 1))), (((1, 0), (1, 2)),), (((0, 0), (1, 4)), ((1, 0), (1, 2)), ((2, 0), (1, 4))), ())
-    >>> put_in(2, mid, 0, u), put_in(2, mid, 0, unit), put_in(2, multiplied(x, x), 0, mid)
-    ((((0, 0), (1, 2)), ((0, 1), (1, 2))), (((0, 0), (1, 1)),), (((0, 0), (1, 4)), ((1, 0), (1, 2)), ((2, 0), (1, 4))))
-    >>> [polynomial_error(2, value) for value in ((), mid, mid[::-1], mid + mid, [mid[0]], (((0, 0), (0, 1)),), (((0,), (1, 1)),), (((0, -1), (1, 1)),))]
-    [None, None, ('order', 1), ('order', 2), 'form', ('term', 0), ('term', 0), ('term', 0)]
-"""
 
 MID = (((0, 0), (1, 2)), ((1, 0), (1, 2)))
 X = (((1, 0), (1, 1)),)
@@ -63,11 +50,6 @@ def put_in_of(n, polynomial, place, other):
             term = product_of(term, other)
         found = sum_of(found, term)
     return found
-
-
-class ExamplesTest(unittest.TestCase):
-    def test_examples(self):
-        check_examples(self, EXAMPLES)
 
 
 class CallsTest(KindsCase):

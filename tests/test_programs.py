@@ -11,38 +11,7 @@ from everystart.programs import (
     is_test, names_error, program_error, put_behind, step_at, steps_error, ways, without,
 )
 from tests import drawn
-from tests.examples import check_examples
 from tests.kinds import KindsCase, shown
-
-EXAMPLES = """
-    >>> from everystart.programs import is_test, names_error, program_error, put_behind, step_at, steps_error, ways, without
-    >>> coin, till = ("die", ((0, (1, 2)), (1, (1, 2)))), ("till", (1, 3))
-    >>> walk = (("x", "y"), (("throw", 0, coin), ("if", (0, "from", 1), (("add", 1, 2),), (("less", 1),))))
-    >>> [names_error(value) for value in (("x", "y"), ("n",), (), ["x"], ("x", "If"), ("x", "or"), ("x", "y", "x"), ("x", "x", 5))]
-    [None, None, 'form', 'form', ('name', 1), ('name', 1), ('twice', 2), ('name', 2)]
-    >>> [is_test(2, value) for value in ((1, "below", 4), (0, "from", 1), (2, "from", 1), (0, "below", 5), (0, "above", 1), [0, "from", 1])]
-    [True, True, False, False, False, False]
-    >>> [steps_error(1, (("less", 0), step)) for step in (("set", 0, 21), ("add", 0, 0), ("less", 1), ("less", 0, 1), ("throw", 0, ("till", (1, 1))), ("sum", 0, coin, 1), ("seen", (0, "below", 5)), "less")]
-    [('number', (1,)), ('number', (1,)), ('counter', (1,)), ('step', (1,)), ('die', (1,)), ('counter', (1,)), ('test', (1,)), ('step', (1,))]
-    >>> [steps_error(1, (("either", (1, 2), (), no),)) for no in ((("less", True),), (("less", 0), ("skip",)), [("less", 0)], (("either", (2, 1), (("set", 0, -1),), ()),))]
-    [('counter', (0, 1, 0)), ('step', (0, 1, 1)), ('step', (0,)), ('share', (0, 1, 0))]
-    >>> steps_error(1, (("less", 0),) * 40), steps_error(1, (("less", 0),) * 41), steps_error(1, [("less", 0)])
-    (None, ('many', ()), ('form', ()))
-    >>> [program_error(value) for value in (walk, (("n",), ()), list(walk), ((), ()), (("x", "x"), 5), (("n",), (("less", 1),)))]
-    [None, None, 'form', ('names', 'form'), ('names', ('twice', 1)), ('steps', ('counter', (0,)))]
-    >>> ways(walk), step_at(walk, (1, 1, 0)), ways((("n",), ()))
-    (((0,), (1,), (1, 0, 0), (1, 1, 0)), ('less', 1), ())
-    >>> without(walk, (1, 0, 0)) == (("x", "y"), (("throw", 0, coin), ("if", (0, "from", 1), (), (("less", 1),)))), without(walk, (1,)) == (("x", "y"), (("throw", 0, coin),))
-    (True, True)
-    >>> put_behind((("a",), (("less", 0),)), (("n",), (("set", 0, 3),)))
-    (('a',), (('less', 0), ('set', 0, 3)))
-    >>> without(walk, (1, 0, 1))
-    raises Unfit()
-    >>> step_at(walk, (True,))
-    raises Unfit()
-    >>> put_behind(walk, (("n",), ()))
-    raises Unfit()
-"""
 
 COIN = ("die", ((0, (1, 2)), (1, (1, 2))))
 LESS = ("less", 0)
@@ -79,11 +48,6 @@ def walked(steps, way=()):
         if step[0] in ("if", "either"):
             found += walked(step[2], way + (place, 0)) + walked(step[3], way + (place, 1))
     return found
-
-
-class ExamplesTest(unittest.TestCase):
-    def test_examples(self):
-        check_examples(self, EXAMPLES)
 
 
 class CallsTest(KindsCase):

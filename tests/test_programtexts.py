@@ -9,32 +9,7 @@ from everystart.errors import BadText
 from everystart.programs import program_error
 from everystart.programtexts import program_text, read_program, read_steps, steps_text
 from tests import drawn
-from tests.examples import check_examples
 from tests.kinds import KindsCase, shown
-
-EXAMPLES = """
-    >>> coin, till = ("die", ((0, (1, 2)), (1, (1, 2)))), ("till", (1, 3))
-    >>> walk = (("x", "y"), (("throw", 0, coin), ("if", (0, "from", 1), (("add", 1, 2),), (("less", 1),))))
-    >>> from everystart.programtexts import program_text, read_program, read_steps, steps_text
-    >>> program_text(walk), program_text((("n",), ()))
-    ('x, y: x += die 1/2 0, 1/2 1; if x >= 1 {y += 2} else {y -= 1}', 'n: skip')
-    >>> read_program("a, b: a += till 1/3 by b; either 1/4 {b := 0; seen a < 3} or {skip}") == (("a", "b"), (("sum", 0, till, 1), ("either", (1, 4), (("set", 1, 0), ("seen", (0, "below", 3))), ())))
-    True
-    >>> steps_text(("a",), (("less", 0), ("seen", (0, "from", 2)))), steps_text(("a",), ()), read_steps(("a", "b"), "b += 3")
-    ('a -= 1; seen a >= 2', 'skip', (('add', 1, 3),))
-    >>> read_program("x: x := 21")
-    raises BadText()
-    >>> read_program("x: y := 2")
-    raises BadText()
-    >>> read_program("x: x -= 2")
-    raises BadText()
-    >>> read_program("x: skip; skip")
-    raises BadText()
-    >>> read_program("x:  skip")
-    raises BadText()
-    >>> read_program("x: x += die 1/2 1, 1/2 0")
-    raises BadText()
-"""
 
 GREAT = 10 ** 399
 COIN = ("die", ((0, (1, 2)), (1, (1, 2))))
@@ -51,11 +26,6 @@ TOLD = {
     "either 1/4 {skip} or {x -= 1}": ("either", (1, 4), (), (LESS,)),
     "either 3/4 {either 1/2 {x := 1} or {skip}} or {skip}": ("either", (3, 4), (("either", (1, 2), (("set", 0, 1),), ()),), ()),
 }
-
-
-class ExamplesTest(unittest.TestCase):
-    def test_examples(self):
-        check_examples(self, EXAMPLES)
 
 
 class CallsTest(KindsCase):

@@ -14,64 +14,13 @@ from everystart.programs import put_behind
 from everystart.runs import left_of, share_of
 from tests import drawn
 from tests.drawn import pair, worth
-from tests.examples import check_examples
 from tests.kinds import KindsCase
 from tests.runner import Runner, TooManyStands
-
-EXAMPLES = """
-    >>> from everystart.figures import known_share, mean_of, outcomes
-    >>> from everystart.runs import left_of, share_of
-    >>> half, third = (1, 2), (1, 3)
-    >>> coin, wait, rare = ("die", ((0, half), (1, half))), ("till", half), ("till", third)
-    >>> pair = (("x", "y"), (("throw", 0, coin), ("sum", 1, coin, 0)))
-    >>> [share_of(pair, (0, 0), end) for end in ((0, 0), (1, 0), (1, 1), (0, 1))], left_of(pair, (3, 4))
-    ([(1, 2), (1, 4), (1, 4), (0, 1)], (1, 1))
-    >>> misses = (("x",), (("throw", 0, rare),))
-    >>> [share_of(misses, (0,), (number,)) for number in (0, 1, 2)], share_of(misses, (4,), (3,)), share_of(misses, (4,), (5,))
-    ([(1, 3), (2, 9), (4, 27)], (0, 1), (2, 9))
-    >>> heads = (("x", "y"), (("throw", 0, wait), ("sum", 1, coin, 0), ("set", 0, 0)))
-    >>> share_of(heads, (0, 0), (0, 0)), share_of(heads, (0, 0), (0, 1)), share_of(heads, (1, 0), (0, 0)), left_of(heads, (5, 5))
-    ((2, 3), (2, 9), (1, 3), (1, 1))
-    >>> late = (("x",), (("throw", 0, wait), ("seen", (0, "from", 2))))
-    >>> left_of(late, (0,)), left_of(late, (1,)), left_of(late, (2,)), share_of(late, (0,), (2,)), share_of(late, (0,), (1,))
-    ((1, 4), (1, 2), (1, 1), (1, 8), (0, 1))
-    >>> fives = (("x",), (("throw", 0, rare), ("if", (0, "below", 1), (), (("set", 0, 5),))))
-    >>> share_of(fives, (0,), (0,)), share_of(fives, (0,), (5,)), share_of(fives, (0,), (1,)), share_of(fives, (1,), (5,))
-    ((1, 3), (2, 3), (0, 1), (1, 1))
-    >>> double, twin = ("sum", 0, coin, 0), ("sum", 1, coin, 1)
-    >>> share_of((("x",), (double,) * 4), (20,), (20,)) == (1, 2 ** 80), left_of((("x",), (double,) * 4), (20,))
-    (True, (1, 1))
-    >>> left_of((("x", "y"), (double, twin) * 2), (20, 20))
-    raises TooMany(2000)
-    >>> known_share(late, (0,), (2,)), known_share(late, (0,), (3,)), known_share(late, (0,), (1,)), mean_of(late, (0,), 0), mean_of(late, (2,), 0)
-    ((1, 2), (1, 4), (0, 1), (3, 1), (3, 1))
-    >>> mean_of(pair, (0, 0), 0), mean_of(pair, (0, 0), 1), mean_of(pair, (3, 4), 1), mean_of(misses, (4,), 0), mean_of(heads, (0, 0), 1)
-    ((1, 2), (1, 4), (23, 4), (6, 1), (1, 2))
-    >>> known_share((("x",), (("seen", (0, "from", 3)),)), (2,), (2,))
-    raises Never()
-    >>> mean_of((("x", "y"), (double, twin) * 2 + (("seen", (0, "below", 1)),)), (20, 20), 0)
-    raises TooMany(2000)
-    >>> outcomes(pair, (0, 0)), outcomes((("x",), (("less", 0), ("seen", (0, "below", 2)))), (5,))
-    ((((0, 0), (1, 2)), ((1, 0), (1, 4)), ((1, 1), (1, 4))), ())
-    >>> outcomes((("x",), (("either", third, (("set", 0, 2),), (("add", 0, 1), ("less", 0))), ("less", 0))), (2,))
-    (((1,), (1, 1)),)
-    >>> outcomes((("x",), (("throw", 0, coin), ("throw", 0, coin), ("if", (0, "from", 2), (("set", 0, 0),), ()))), (0,))
-    (((0,), (1, 2)), ((1,), (1, 2)))
-    >>> outcomes((("x",), (("sum", 0, ("die", ((9, (1, 1)),)), 0),) * 40), (1,)) == (((10 ** 40,), (1, 1)),)
-    True
-    >>> outcomes(misses, (0,))
-    raises Unfit()
-"""
 
 COIN = ("die", ((0, (1, 2)), (1, (1, 2))))
 HALF, THIRD = ("till", (1, 2)), ("till", (1, 3))
 ONE, TWO = ("x",), ("x", "y")
 NO_RUN = ("if", (0, "below", 1), (("set", 0, 1), ("if", (0, "below", 1), (("throw", 0, HALF),), ()), ("set", 0, 0)), ())
-
-
-class ExamplesTest(unittest.TestCase):
-    def test_examples(self):
-        check_examples(self, EXAMPLES)
 
 
 class CallsTest(KindsCase):
