@@ -17,7 +17,7 @@ from everystart.runs import left_of, share_of
 from tests import drawn
 from tests.kinds import KindsCase, same
 
-COIN, HALF = ("die", ((0, (1, 2)), (1, (1, 2)))), ("till", (1, 2))
+COIN = ("die", ((0, (1, 2)), (1, (1, 2))))
 ONE, TWO = ("x",), ("x", "y")
 THROW, SUM = ("throw", 0, COIN), ("sum", 1, COIN, 0)
 DOUBLE, TWIN = ("sum", 0, COIN, 0), ("sum", 1, COIN, 1)

@@ -16,8 +16,7 @@ COIN, HALF = ("die", ((0, (1, 2)), (1, (1, 2)))), ("till", (1, 2))
 ONE, TWO = ("x",), ("x", "y")
 OVER, PAIR = (ONE, (("add", 0, 1), ("set", 0, 5))), (ONE, (("add", 0, 1), ("less", 0)))
 GUARD = (TWO, (("set", 0, 1), ("if", (0, "below", 1), (("add", 1, 1),), ()), ("set", 0, 2)))
-UP, DOWN, THREE = (ONE, (("add", 0, 1),)), (ONE, (("less", 0),)), (("n",), (("set", 0, 3),))
-POUR, GROW = (TWO, (("sum", 1, COIN, 0),)), (TWO, (("add", 0, 1),))
+UP, THREE, POUR = (ONE, (("add", 0, 1),)), (("n",), (("set", 0, 3),)), (TWO, (("sum", 1, COIN, 0),))
 TENFOLD = (TWO, (("sum", 0, ("die", ((9, (1, 1)),)), 0),) * 9)
 
 

@@ -20,7 +20,6 @@ ONE, TWO, SOME = ("x",), ("x", "y"), (0, "from", 1)
 COUNTING = (TWO, SOME, (("less", 0), ("throw", 1, COIN)))
 COUNTED = (TWO, (("sum", 1, COIN, 0), ("set", 0, 0)))
 WAITING = (TWO, SOME, (("either", (1, 2), (("set", 0, 0),), (("add", 1, 1),)),))
-WAITED = (TWO, (("if", SOME, (("throw", 1, HALF), ("set", 0, 0)), ()),))
 TILLED = (TWO, SOME, (("less", 0), ("throw", 1, HALF)))
 
 
